@@ -40,6 +40,60 @@ def bound_names(tree):
             yield node.arg, node.lineno
         elif isinstance(node, ast.Name) and isinstance(node.ctx, ast.Store):
             yield node.id, node.lineno
+        elif isinstance(node, ast.ExceptHandler) and node.name:
+            yield node.name, node.lineno
+
+
+def called(node):
+    """The plain name that a call calls, or an empty text."""
+    if isinstance(node, ast.Call) and isinstance(node.func, ast.Name):
+        return node.func.id
+    return ""
+
+
+def is_walk(node):
+    """Whether what stands there is to be walked on the spot (L23)."""
+    if called(node) in ("zip", "enumerate", "reversed", "range"):
+        return True
+    return (isinstance(node, ast.Call) and isinstance(node.func, ast.Attribute)
+            and node.func.attr in ("items", "keys", "values"))
+
+
+def walked_on_the_spot(tree):
+    """What stands behind the in of a for or comprehension, or first in a call that walks it."""
+    for node in ast.walk(tree):
+        if isinstance(node, (ast.For, ast.comprehension)):
+            yield node.iter
+        elif called(node) in ("list", "tuple", "dict", "sorted", "sum", "any", "all", "enumerate", "min", "max"):
+            yield node.args[0] if node.args else None
+        elif called(node) == "zip":
+            yield from node.args
+        elif isinstance(node, ast.Call) and isinstance(node.func, ast.Attribute) and node.func.attr == "join":
+            yield node.args[0]
+
+
+def tops_bound(tree):
+    """The names that a file binds at its top, without its imports."""
+    for top in tree.body:
+        if isinstance(top, (ast.FunctionDef, ast.ClassDef)):
+            yield top.name
+        elif isinstance(top, ast.Assign):
+            yield top.targets[0].id
+
+
+def is_plain(node, functions):
+    """Whether a value at a file's top is plain (L3), or a function defined above."""
+    if isinstance(node, ast.Constant):
+        return True
+    if isinstance(node, (ast.Tuple, ast.List)):
+        return all(is_plain(one, functions) for one in node.elts)
+    if isinstance(node, ast.Dict):
+        return all(is_plain(one, functions) for one in node.keys + node.values)
+    if isinstance(node, ast.BinOp) and isinstance(node.op, ast.Pow):
+        return is_plain(node.left, functions) and is_plain(node.right, functions)
+    if isinstance(node, ast.UnaryOp):
+        return is_plain(node.operand, functions)
+    return isinstance(node, ast.Name) and node.id in functions
 
 
 class Language(unittest.TestCase):
@@ -129,8 +183,132 @@ class Language(unittest.TestCase):
     def test_methods(self):
         own = [name for tree in self.trees.values() for name, row in bound_names(tree)]
         for where, node in self.walk():
+            if isinstance(node, ast.Attribute) and isinstance(node.ctx, ast.Store):
+                own.append(node.attr)
+        for where, node in self.walk():
             if isinstance(node, ast.Attribute):
                 self.assertIn(node.attr, METHODS + own, where)
+
+    def test_the_top_of_a_file_binds_plain_values_once(self):
+        for path, tree in self.trees.items():
+            names = list(tops_bound(tree))
+            self.assertEqual(len(names), len(set(names)), path.name)
+            functions = []
+            for top in tree.body:
+                where = (path.name, top.lineno)
+                if isinstance(top, ast.FunctionDef):
+                    functions.append(top.name)
+                elif isinstance(top, ast.Assign):
+                    self.assertTrue(is_plain(top.value, functions), where)
+                elif isinstance(top, ast.Expr):
+                    self.assertIsInstance(top.value, ast.Constant, where)
+                else:
+                    self.assertIsInstance(top, (ast.ImportFrom, ast.ClassDef), where)
+
+    def test_no_two_files_draw_from_one_another(self):
+        draws = {}
+        for path, tree in self.trees.items():
+            modules = [node.module for node in ast.walk(tree) if isinstance(node, ast.ImportFrom)]
+            draws[path.stem] = [module.split(".")[1] for module in modules]
+        done = []
+        while len(done) < len(draws):
+            free = [stem for stem in draws if stem not in done and all(one in done for one in draws[stem])]
+            self.assertNotEqual(free, [], "these draw from one another")
+            done.extend(free)
+
+    def test_what_is_imported_is_used(self):
+        for path, tree in self.trees.items():
+            used = [node.id for node in ast.walk(tree) if isinstance(node, ast.Name)]
+            for node in ast.walk(tree):
+                if isinstance(node, ast.ImportFrom):
+                    for alias in node.names:
+                        self.assertIn(alias.name, used, path.name)
+
+    def test_no_local_is_called_like_a_def_of_its_file(self):
+        for path, tree in self.trees.items():
+            tops = list(tops_bound(tree))
+            for top in tree.body:
+                if isinstance(top, ast.FunctionDef):
+                    for name, row in bound_names(top):
+                        self.assertTrue(name == top.name or name not in tops, (path.name, row, name))
+
+    def test_is_stands_beside_none_true_and_false_alone(self):
+        for where, node in self.walk():
+            if isinstance(node, ast.Compare) and any(isinstance(op, (ast.Is, ast.IsNot)) for op in node.ops):
+                self.assertEqual(len(node.ops), 1, where)
+                self.assertIsInstance(node.comparators[0], ast.Constant, where)
+
+    def test_what_is_walked_is_walked_on_the_spot(self):
+        for path, tree in self.trees.items():
+            spots = list(walked_on_the_spot(tree))
+            for node in ast.walk(tree):
+                if is_walk(node):
+                    self.assertTrue(any(node is spot for spot in spots), (path.name, node.lineno))
+
+    def test_no_sets(self):
+        for where, node in self.walk():
+            self.assertNotIn(type(node).__name__, ("Set", "SetComp", "DictComp"), where)
+            self.assertNotIn(called(node), ("set", "frozenset"), where)
+
+    def test_errors_are_the_programs_own(self):
+        own = [top.name for top in self.trees[PACKAGE / "errors.py"].body if isinstance(top, ast.ClassDef)]
+        for where, node in self.walk():
+            if isinstance(node, ast.Raise):
+                self.assertIn(called(node.exc), own, where)
+            if isinstance(node, ast.ExceptHandler):
+                self.assertIn(node.type.id, own, where)
+
+    def test_keywords_and_own_functions(self):
+        allowed = {"sorted": ("key", "reverse"), "min": ("key", "default"), "max": ("key", "default"),
+                   "sum": ("start",), "enumerate": ("start",), "zip": ("strict",)}
+        for path, tree in self.trees.items():
+            names = [node.func for node in ast.walk(tree) if isinstance(node, ast.Call)]
+            for node in ast.walk(tree):
+                if isinstance(node, ast.Call):
+                    for keyword in node.keywords:
+                        self.assertIn(keyword.arg, allowed.get(called(node), ()), (path.name, node.lineno))
+                if isinstance(node, ast.Name) and node.id in ("len", "sorted", "sum", "min", "max", "any", "all"):
+                    self.assertTrue(any(node is name for name in names), (path.name, node.lineno))
+
+    def test_methods_are_called_where_they_stand(self):
+        for path, tree in self.trees.items():
+            names = [node.func for node in ast.walk(tree) if isinstance(node, ast.Call)]
+            for node in ast.walk(tree):
+                if isinstance(node, ast.Attribute) and node.attr in METHODS:
+                    self.assertTrue(any(node is name for name in names), (path.name, node.lineno))
+
+    def test_texts_and_f_strings(self):
+        for where, node in self.walk():
+            if isinstance(node, ast.Constant) and isinstance(node.value, str):
+                self.assertNotIn("%", node.value, where)
+            if isinstance(node, ast.FormattedValue):
+                self.assertIsInstance(node.value, ast.Name, where)
+                self.assertIsNone(node.format_spec, where)
+
+    def test_what_a_loop_walks_is_not_changed_in_it(self):
+        changes = ("append", "clear", "extend", "insert", "pop", "remove", "reverse", "setdefault", "update")
+        for where, node in self.walk():
+            if not isinstance(node, ast.For):
+                continue
+            walked = [one.id for one in ast.walk(node.iter) if isinstance(one, ast.Name)]
+            for inside in [one for row in node.body for one in ast.walk(row)]:
+                if isinstance(inside, ast.Attribute) and inside.attr in changes and isinstance(inside.value, ast.Name):
+                    self.assertNotIn(inside.value.id, walked, where)
+                if isinstance(inside, ast.Subscript) and isinstance(inside.ctx, ast.Store):
+                    self.assertNotIn(getattr(inside.value, "id", ""), walked, where)
+
+    def test_no_name_is_a_method_here_and_a_value_there(self):
+        methods = []
+        values = []
+        for where, node in self.walk():
+            if isinstance(node, ast.ClassDef):
+                methods.extend([row.name for row in node.body if isinstance(row, ast.FunctionDef)])
+            if isinstance(node, ast.Attribute) and isinstance(node.ctx, ast.Store):
+                values.append(node.attr)
+        own = dir(str) + dir(int) + dir(list) + dir(dict) + dir(tuple) + dir(set) + dir(bytes)
+        for name in methods + values:
+            self.assertFalse(name in methods and name in values, name)
+            self.assertTrue(name == "__init__" or name not in own, name)
 
 
 if __name__ == "__main__":
