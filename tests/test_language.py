@@ -173,7 +173,7 @@ class Language(unittest.TestCase):
             imported = [a.name for n in ast.walk(tree) if isinstance(n, ast.ImportFrom) for a in n.names]
             bound = [name for name, row in bound_names(tree)]
             for name, row in bound_names(tree):
-                self.assertFalse(name.startswith("_"), (path.name, row, name))
+                self.assertTrue(name == "__init__" or not name.startswith("_"), (path.name, row, name))
                 self.assertNotIn(name, dir(builtins), (path.name, row))
                 self.assertNotIn(name, imported, (path.name, row))
             for node in ast.walk(tree):

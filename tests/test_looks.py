@@ -6,14 +6,12 @@ import unittest
 
 from chiefway.books import book
 from chiefway.looks import chief_make, even, fault, fits, make_fault, seen_form, shortfall, way_fault
-from helper import WHEELS, all_kinds, all_tuples, along, any_aligned_book, any_book, naive_ways, naive_worth
+from helper import (
+    WHEELS, all_kinds, all_tuples, along, any_aligned_book, any_book, naive_chief, naive_fits, naive_fitting, naive_seen,
+    naive_shortfall, naive_ways, naive_worth, points)
 
 LINE = [((1,), 1)]
 LINE_OF_TWO = [((1, 0), 1)]
-
-
-def points(n):
-    return list(itertools.product(range(3), repeat=n))
 
 
 def all_books(seed, many):
@@ -33,40 +31,6 @@ def naive_way_fault(told):
                 for x in (0, 1):
                     if along(told, found[0], x) != along(told, way, x):
                         return (j, k, found[0], way, x)
-    return None
-
-
-def naive_fits(told, v, kinds):
-    takes = told[3][v][1]
-    return len(takes) == len(kinds) and all(naive_ways(told, j, k) for j, k in zip(kinds, takes))
-
-
-def naive_seen(told, v, kinds, values):
-    """What the make is worth where the values stand at the kinds."""
-    name, takes, gives, form, price = told[3][v]
-    brought = [along(told, naive_ways(told, j, k)[0], x) for j, k, x in zip(kinds, takes, values)]
-    return naive_worth(told[0], form, brought)
-
-
-def naive_shortfall(told, m, v, kinds):
-    found = naive_ways(told, told[3][m][2], told[3][v][2])
-    if not found:
-        return ()
-    for values in points(len(kinds)):
-        if along(told, found[0], naive_seen(told, m, kinds, values)) != naive_seen(told, v, kinds, values):
-            return values
-    return None
-
-
-def naive_fitting(told, name, kinds):
-    return [v for v, make in enumerate(told[3]) if make[0] == name and naive_fits(told, v, kinds)]
-
-
-def naive_chief(told, name, kinds):
-    fitting = naive_fitting(told, name, kinds)
-    for m in fitting:
-        if all(naive_shortfall(told, m, v, kinds) is None for v in fitting):
-            return m
     return None
 
 
