@@ -8,7 +8,10 @@ from chiefway.chiefs import chief
 from chiefway.counting import counts, told
 from chiefway.errors import NoReading
 from chiefway.looks import even, fault
+from chiefway.machine import run
+from chiefway.prices import cheapest
 from chiefway.readings import worth
+from chiefway.rows import longest, rows_of
 from helper import (
     GREAT, all_kinds, along, any_book, any_even_book, any_given, any_heads, naive_readings, naive_value, naive_ways,
     readable_part, samples)
@@ -30,6 +33,22 @@ def is_chief(told_book, heads, readings, kind, reading, givens):
 
 
 class Even(unittest.TestCase):
+    def test_the_reading_that_costs_least_is_worth_the_same_and_so_are_its_rows(self):
+        chance = random.Random(75)
+        many = 0
+        for told_book, heads, part, readings in samples(76, (3, 5, 15, GREAT), 100, any_even_book, 12, 400):
+            given = any_given(chance, told_book, heads)
+            for kind in all_kinds(told_book):
+                if readings[kind]:
+                    reading = cheapest(told_book, heads, part, kind)
+                    numbers = {naive_value(told_book, one, given) for one in readings[kind]}
+                    self.assertEqual(numbers, {worth(told_book, reading, given)})
+                    rows = rows_of(told_book, heads, reading)
+                    values = [given[x] for x, k in heads]
+                    self.assertEqual({run(told_book[0], rows, values, longest(reading))[0]}, numbers)
+                    many += 1
+        self.assertGreater(many, 300)
+
     def test_all_readings_are_worth_what_the_chief_one_is(self):
         chance = random.Random(71)
         seen = {"programs": 0, "readings": 0, "none": 0, "several": 0}
