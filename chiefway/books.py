@@ -10,7 +10,6 @@ MOST_ROADS = 12
 MOST_MAKES = 16
 MOST_OF_A_DEED = 6
 MOST_POWER = 2
-MOST_PRICE = 10 ** 30
 
 
 def is_name(text):
@@ -50,7 +49,7 @@ def roads_of(M, many, roads):
 
 
 def is_price(price):
-    return 0 <= price <= MOST_PRICE
+    return 0 <= price <= 10 ** 30
 
 
 def makes_of(M, many, makes):

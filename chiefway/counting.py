@@ -103,11 +103,9 @@ def counts(book, heads, part):
 
 
 def told(book, heads, part, kind, n):
-    atlas = Atlas(book)
-    node = Node(part)
-    if n < 0 or n >= number_in(sum_at(atlas, node, dict(heads), kind)):
-        raise NoReading("no reading has that number")
-    return told_at(atlas, node, dict(heads), kind, n)
+    if n < 0:
+        raise NoReading("no reading has a number below 0")
+    return told_at(Atlas(book), Node(part), dict(heads), kind, n)
 
 
 def told_at(atlas, node, heads, kind, n):

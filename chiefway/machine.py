@@ -69,7 +69,7 @@ def do_turn(machine, row):
 
 
 def do_reckon(machine, row):
-    values = [machine.pile.pop() for time in range(row[1])]
+    values = [machine.pile.pop() for lap in range(row[1])]
     values.reverse()
     machine.pile.append(worth_at(machine.wheel, row[2], values))
 

@@ -147,7 +147,7 @@ def pick_worth(book, reading, given):
 
 def again_worth(book, reading, given):
     last = worth(book, reading[4], given)
-    for time in range(reading[1]):
+    for lap in range(reading[1]):
         last = worth(book, reading[5], with_worth(given, reading[3], last))
     return last
 

@@ -89,8 +89,6 @@ def is_plain(node, functions):
         return all(is_plain(one, functions) for one in node.elts)
     if isinstance(node, ast.Dict):
         return all(is_plain(one, functions) for one in node.keys + node.values)
-    if isinstance(node, ast.BinOp) and isinstance(node.op, ast.Pow):
-        return is_plain(node.left, functions) and is_plain(node.right, functions)
     if isinstance(node, ast.UnaryOp):
         return is_plain(node.operand, functions)
     return isinstance(node, ast.Name) and node.id in functions

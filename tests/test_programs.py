@@ -181,6 +181,8 @@ class Refused(unittest.TestCase):
             again(ONE, again(X, use(again(y, z, "z")), "y")),
             again(ONE, use(again(X, ("pick", 0, 0, ONE, ONE, again(y, z, "z")), "y"))),
             again(ONE, again(X, let("u", again(y, z, "z"), ONE), "y")),
+            again(again(ONE, again(X, again(y, z, "z"), "y")), X),
+            again(ONE, again(again(X, again(X, z, "z"), "u"), y, "y")),
         ):
             self.refused(TooBig, [], body)
         for body in (

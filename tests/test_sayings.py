@@ -108,7 +108,7 @@ class Refused(unittest.TestCase):
         for text in ("", " ", "\n", "in", "in\n", "in x cm", "in x cm\n", "\nx", "x", "in\n\n", "in x cm\nx\n", "in x cm\nx\nx",
                      "in x cm\n\nx", "\nin x cm\nx", "in x cm x", "(" * 4000, "f(" * 2000, "in\n" + "f(" * 1998,
                      "in\n" + "let x = " * 490, "in\n" + "again 1 cm x (" * 280, "in\n" + "pick cm cm (" * 330, "in\n" + "9" * 3900,
-                     "in\n" + "a" * 3900, "in\n" + " " * 3900, "in x cm\nf(" + "x " * 1900 + "x)", "in\n" + ")" * 3000,
+                     "in\n" + "a" * 3900, "in\n" + " " * 3900, "in x cm\nf(" + "x " * 1900 + "x)", "in x cm\n" + "f(x " * 990, "in\n" + "9" * 5000 + ":cm", "in\n" + ")" * 3000,
                      "in x cm\n" + "let z = x in " * 300 + "x", "in" + " x cm" * 700 + "\nx"):
             self.refused(text)
 

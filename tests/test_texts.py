@@ -73,7 +73,7 @@ class Refused(unittest.TestCase):
 
     def test_no_book_at_all(self):
         for text in ("", " ", "\n", "wheel", "kind a", "wheel 3", "wheel 3\n", "wheel\nkind a", "wheel 3 kind a", "even", "~",
-                     "\n" * 4000, " " * 4000, "9" * 4000, "wheel 3\n" + "kind a\n" * 500, "make " * 700, ">" * 3000, "*" * 3999):
+                     "\n" * 4000, " " * 4000, "9" * 4000, "wheel " + "9" * 5000, "wheel 3\n" + "kind a\n" * 500, "make " * 700, ">" * 3000, "*" * 3999):
             self.refused(text)
 
     def test_each_row_missing_twice_or_elsewhere(self):
